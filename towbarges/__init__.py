@@ -1,0 +1,1 @@
+"""Towbarges: barges that share tows down a river."""
