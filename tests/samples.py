@@ -87,3 +87,12 @@ def bad_plans():
     for value in (True, False, "1", "-", b"1", (), (1,), [1], {}, -1, 12, 99):
         told += [(value, 0), (0, value), (None, value), (value, value)]
     return told
+
+# books with plans against which one thing speaks: early, late, shallow, full, crossed
+NOT_GOOD = (
+    ((RIVER, ((0, 1, 1, 5, 99),)), (4,)),
+    ((RIVER, ((0, 1, 1, 0, 4),)), (4,)),
+    ((RIVER, ((1, 2, 81, 0, 99),)), (4,)),
+    ((((1, 1, (10,)),), ((0, 1, 1, 0, 99),) * 2), (4, 4)),
+    ((WIDE, (plain(0, 2), plain(1, 3))), (4, 4)),
+)

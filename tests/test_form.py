@@ -17,6 +17,15 @@ INTERFACE = {
         "spare": "book plan",
     },
     "rows": {"rows": "book plan", "journal": "book plan"},
+    "planning": {
+        "best": "book start now",
+        "counted": "book start now",
+        "earliest": "book start now",
+        "together": "book one other",
+    },
+    "showing": {"shows": "book start now worth table"},
+    "mending": {"late": "book plan now barge ready", "lost": "book plan now barge"},
+    "texts": {"written": "book plan", "read": "text"},
 }
 
 BUILTINS = """len range enumerate zip min max sum abs sorted reversed int str bool bytes list tuple dict set
@@ -26,6 +35,10 @@ ZeroDivisionError ArithmeticError OverflowError RuntimeError NotImplementedError
 METHODS = """append clear copy count endswith extend find get index insert isalnum isalpha isdigit islower isspace
 isupper items join keys ljust lower lstrip partition pop remove replace reverse rfind rjust rpartition rsplit rstrip
 setdefault split splitlines startswith strip update upper values zfill bit_length sort add discard __init__""".split()
+
+BARRED = """register mro elements open input law version_info with_traceback add_note attrgetter breakpoint builtins
+compile copyright credits delattr dir eval exec exit gc getattr globals hasattr help id importlib license locals
+methodcaller os quit setattr type vars sys typing enum format format_map""".split()
 
 NO_NODES = (
     ast.Global, ast.AsyncFunctionDef, ast.AsyncFor, ast.AsyncWith, ast.Await, ast.AnnAssign, ast.Div, ast.Import,
@@ -111,15 +124,47 @@ class Language(unittest.TestCase):
                 del needs[file]
 
     def test_builtins_and_their_methods(self):
+        own = []
+        for _, tree in trees():
+            for kind in [node for node in tree.body if isinstance(node, ast.ClassDef)]:
+                own += [part.name for part in kind.body if isinstance(part, ast.FunctionDef)]
         for path, tree in trees():
             for node in ast.walk(tree):
                 if isinstance(node, ast.Name) and hasattr(builtins, node.id):
                     self.assertIn(node.id, BUILTINS, path)
                     self.assertIsInstance(node.ctx, ast.Load, path)
                 if isinstance(node, ast.Call) and isinstance(node.func, ast.Attribute):
-                    self.assertIn(node.func.attr, METHODS, path)
+                    self.assertIn(node.func.attr, METHODS + own, path)
                 if isinstance(node, ast.arg):
                     self.assertFalse(hasattr(builtins, node.arg), path)
+
+    def test_names_mean_one_thing_in_a_file(self):
+        for path, tree in trees():
+            bound, local = [], []
+            for node in tree.body:
+                if isinstance(node, ast.ImportFrom):
+                    bound += [alias.name for alias in node.names]
+                elif isinstance(node, (ast.ClassDef, ast.FunctionDef)):
+                    bound.append(node.name)
+                    inside = list(ast.walk(node))
+                    local += [part.arg for part in inside if isinstance(part, ast.arg)]
+                    stored = [part for part in inside if isinstance(part, ast.Name)]
+                    local += [part.id for part in stored if isinstance(part.ctx, ast.Store)]
+                elif isinstance(node, ast.Assign):
+                    bound += [target.id for target in node.targets]
+            self.assertEqual(len(bound), len(set(bound)), path)
+            self.assertEqual(set(bound) & set(local), set(), path)
+
+    def test_a_blank_name_is_not_read(self):
+        for path, tree in trees():
+            for node in ast.walk(tree):
+                self.assertFalse(isinstance(node, ast.Name) and node.id == "_" and isinstance(node.ctx, ast.Load), path)
+
+    def test_words_that_are_not_used(self):
+        for path, tree in trees():
+            for node in ast.walk(tree):
+                for field in ("id", "arg", "attr", "name"):
+                    self.assertNotIn(getattr(node, field, None), BARRED, path)
 
 
 if __name__ == "__main__":

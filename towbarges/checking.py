@@ -28,6 +28,11 @@ def is_stretch(value):
     return is_row(depths, 1, 24) and all(is_number(depth, 0, 99) for depth in depths)
 
 
+def is_ready(value):
+    """Tell whether a value is a time at which a barge can be ready."""
+    return is_number(value, 0, 99)
+
+
 def is_barge(value, last):
     """Tell whether a value is a barge on a river with that last place."""
     if not is_row(value, 5, 5):
@@ -35,7 +40,7 @@ def is_barge(value, last):
     begin, goal, draft, ready, due = value
     if not is_number(begin, 0, last) or not is_number(goal, 0, last) or begin >= goal:
         return False
-    return is_number(draft, 1, 99) and is_number(ready, 0, 99) and is_number(due, 0, 199)
+    return is_number(draft, 1, 99) and is_ready(ready) and is_number(due, 0, 199)
 
 
 def check_book(book):
